@@ -1,0 +1,1 @@
+"""Halfcrumb: a loaf shared by asks."""

@@ -1,0 +1,13 @@
+"""Whole numbers as they are written by figures."""
+
+FIGURES = "0123456789"
+MOST_FIGURES = 40
+
+
+def is_number(text):
+    """Tell whether the text is one to forty figures without a needless nought ahead."""
+    if not 1 <= len(text) <= MOST_FIGURES:
+        return False
+    if len(text) > 1 and text[0] == "0":
+        return False
+    return all([sign in FIGURES for sign in text])

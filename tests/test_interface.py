@@ -1,0 +1,50 @@
+"""The interface: names, arguments and where each method stands."""
+
+import importlib
+import inspect
+import unittest
+
+FUNCTIONS = {
+    "fractions": (
+        "fraction_of(top, bottom=1)", "plus(one, other)", "minus(one, other)", "times(one, other)",
+        "over(one, other)", "is_less(one, other)", "fraction_text(fraction)", "read_fraction(text)",
+    ),
+    "tabletext": ("read_table(text)",),
+}
+CLASSES = {
+    "tables": ("Table", "(stretches)", (
+        "stretches()", "total()", "ends()", "worth(here=None, there=None)", "cut(here, much, last=None)",
+        "__len__()", "__eq__(other)", "__str__()",
+    )),
+}
+
+
+def written(function, name):
+    """A function as the interface writes it, without the own object of a method."""
+    parameters = [
+        parameter for parameter in inspect.signature(function).parameters.values() if parameter.name != "self"
+    ]
+    return f"{name}({', '.join(str(parameter) for parameter in parameters)})"
+
+
+class Interface(unittest.TestCase):
+    def test_functions(self):
+        for module, functions in FUNCTIONS.items():
+            for text in functions:
+                name = text.partition("(")[0]
+                found = getattr(importlib.import_module(f"halfcrumb.{module}"), name)
+                self.assertEqual(written(found, name), text)
+
+    def test_classes(self):
+        for module, (name, making, methods) in CLASSES.items():
+            kind = getattr(importlib.import_module(f"halfcrumb.{module}"), name)
+            if making is not None:
+                self.assertEqual(written(vars(kind)["__init__"], ""), making)
+            for text in methods:
+                method = text.partition("(")[0]
+                self.assertIn(method, vars(kind), f"{name} has {method} in its own body")
+                self.assertEqual(written(vars(kind)[method], method), text)
+
+
+if __name__ == "__main__":
+    unittest.main()
