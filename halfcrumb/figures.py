@@ -1,7 +1,12 @@
-"""Whole numbers as they are written by figures."""
+"""Whole numbers, and how they are written by figures."""
 
 FIGURES = "0123456789"
 MOST_FIGURES = 40
+
+
+def is_whole(thing):
+    """Tell whether a thing, of any kind, is a whole number; a truth is none."""
+    return isinstance(thing, int) and not isinstance(thing, bool)
 
 
 def is_number(text):

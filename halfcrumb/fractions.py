@@ -1,7 +1,7 @@
 """Fractions: tuples (top, bottom) of whole numbers in lowest terms, the bottom from 1 on."""
 
 from halfcrumb.errors import NoFraction, NoText
-from halfcrumb.figures import is_number
+from halfcrumb.figures import is_number, is_whole
 
 
 def greatest_divisor(one, other):
@@ -42,9 +42,27 @@ def over(one, other):
     return fraction_of(one[0] * other[1], one[1] * other[0])
 
 
+def sum_of(fractions):
+    """Tell the sum of a list of fractions."""
+    total = (0, 1)
+    for fraction in fractions:
+        total = plus(total, fraction)
+    return total
+
+
 def is_less(one, other):
     """Tell whether one is less than other."""
     return one[0] * other[1] < other[0] * one[1]
+
+
+def is_fraction(thing):
+    """Tell whether a thing, of any kind, is a fraction."""
+    if not isinstance(thing, tuple) or len(thing) != 2:
+        return False
+    top, bottom = thing
+    if not is_whole(top) or not is_whole(bottom):
+        return False
+    return bottom >= 1 and greatest_divisor(abs(top), bottom) == 1
 
 
 def fraction_text(fraction):

@@ -10,10 +10,20 @@ FUNCTIONS = {
         "over(one, other)", "is_less(one, other)", "fraction_text(fraction)", "read_fraction(text)",
     ),
     "tabletext": ("read_table(text)",),
+    "sharetext": ("read_share(text)",),
 }
 CLASSES = {
     "tables": ("Table", "(stretches)", (
         "stretches()", "total()", "ends()", "worth(here=None, there=None)", "cut(here, much, last=None)",
+        "__len__()", "__eq__(other)", "__str__()",
+    )),
+    "shares": ("Share", "(spans)", (
+        "spans()", "plus(other)", "less(other)", "both(other)", "parted(place)", "length()", "worth(table)",
+        "__len__()", "__eq__(other)", "__str__()",
+    )),
+    # Way is never made alone, so what it is made of is free.
+    "ways": ("Way", None, (
+        "due()", "ended()", "hands()", "log()", "asked()", "shares()", "answer(reply)", "back()", "again()", "twin()",
         "__len__()", "__eq__(other)", "__str__()",
     )),
 }

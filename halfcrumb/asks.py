@@ -1,0 +1,22 @@
+"""Asks, tuples (word, hand, ..), and the replies to them."""
+
+from halfcrumb.figures import is_whole
+from halfcrumb.fractions import fraction_text, is_fraction, is_less
+
+
+def is_legal(ask, reply):
+    """Tell whether a reply, a thing of any kind, is legal to an ask."""
+    if ask[0] in ("cut", "even"):
+        here = ask[2]
+        there = ask[3]
+        return is_fraction(reply) and not is_less(reply, here) and not is_less(there, reply)
+    many = len(ask[2])
+    if ask[0] == "trim":
+        # One number more, for none of the pieces.
+        many += 1
+    return is_whole(reply) and 0 <= reply < many
+
+
+def reply_text(reply):
+    """Write a reply, a place or a number."""
+    return fraction_text(reply) if isinstance(reply, tuple) else str(reply)
