@@ -1,9 +1,16 @@
 """The base of the ways of sharing."""
 
 from halfcrumb.asks import is_legal, reply_text
-from halfcrumb.errors import Ended, NoReply, NotEnded, NothingSaid
+from halfcrumb.errors import Ended, NoHands, NoReply, NotEnded, NothingSaid
+from halfcrumb.figures import is_whole
 from halfcrumb.replay import Replay, Unanswered
 from halfcrumb.shares import Share
+
+
+def check_number(number, least, most):
+    """Refuse a number of which a way cannot be made."""
+    if not is_whole(number) or not least <= number <= most:
+        raise NoHands(f"the number is one from {least} to {most}")
 
 
 class Way:
@@ -19,6 +26,7 @@ class Way:
         self.size = size
         self.said = []
         self.unsaid = []
+        self.ears = []
 
     def fresh(self):
         """Tell a new way of the same class, made with the same number."""
@@ -78,6 +86,7 @@ class Way:
             raise NoReply(ask)
         self.said.append(reply)
         self.unsaid = []
+        self.tell("answer", reply)
 
     def back(self):
         """Take the last reply away, and tell it."""
@@ -85,6 +94,7 @@ class Way:
             raise NothingSaid("no reply stands")
         reply = self.said.pop()
         self.unsaid.append(reply)
+        self.tell("back", reply)
         return reply
 
     def again(self):
@@ -93,6 +103,7 @@ class Way:
             raise NothingSaid("no reply can be added again")
         reply = self.unsaid.pop()
         self.said.append(reply)
+        self.tell("again", reply)
         return reply
 
     def twin(self):
@@ -101,6 +112,19 @@ class Way:
         other.said = list(self.said)
         other.unsaid = list(self.unsaid)
         return other
+
+    def heed(self, watcher, word):
+        """Let a watcher hear by a word of what is done from now on, behind those that hear of it already."""
+        self.ears.append((watcher, word))
+
+    def ignore(self, watcher, word):
+        """Let a watcher hear no more by a word."""
+        self.ears.remove((watcher, word))
+
+    def tell(self, deed, reply):
+        """Tell all who watch what was done."""
+        for watcher, word in self.ears:
+            watcher.hear(deed, word, reply)
 
     def __len__(self):
         return len(self.said)

@@ -26,6 +26,11 @@ CLASSES = {
         "due()", "ended()", "hands()", "log()", "asked()", "shares()", "answer(reply)", "back()", "again()", "twin()",
         "__len__()", "__eq__(other)", "__str__()",
     )),
+    "watching": ("Watcher", "()", ("watch(way, word)", "leave(word)", "heard()")),
+    "onecuts": ("OneCuts", "(cutter=0)", ()),
+    "halving": ("Halving", "(hands=2)", ()),
+    "trimming": ("Trimming", "(hands=2)", ()),
+    "threehands": ("ThreeHands", "(cutter=0)", ()),
 }
 
 

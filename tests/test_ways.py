@@ -6,10 +6,7 @@ import unittest
 from halfcrumb.errors import Ended, NoReply, NotEnded, NothingSaid
 from halfcrumb.shares import Share
 from halfcrumb.ways import Way
-
-NOUGHT = (0, 1)
-ONE = (1, 1)
-BIG = 10 ** 400 - 1
+from tests.common import BIG, NEVER, NOUGHT, ONE, answered, stands
 
 
 class Sample(Way):
@@ -72,31 +69,11 @@ TRIM = ("trim", 0, ((NOUGHT, (1, 3)), ((1, 3), (1, 2)), ((1, 2), ONE)))
 CHOOSE = ("choose", 1, ((NOUGHT, (1, 3)), ((1, 2), ONE)))
 REPLIES = [(1, 2), (1, 3), 1, 0]
 ASKS = [CUT, EVEN, TRIM, CHOOSE]
-# Of each kind that may be handed in as a reply, none of which is legal to any ask.
-NEVER = (
-    None, True, False, "", "0", "1/2", "none", [], [0], [1, 2], [(1, 2)], (), (1,), (0,), (1, 2, 3), (1, 2, None),
-    (None, None), ("1", "2"), ("1", 2), (1, "2"), (True, 2), (1, True), (False, True), (False, 1), (0, True), ((1, 2),),
-    ((1,), 2), ((1, 2), (1, 2)), ([1], 2), (1, [2]), (2, 4), (50, 100), (0, 2), (0, -1), (-1, -2), (1, -2), (-1, 2),
-    (1, 0), (0, 0), (3, 2), (2, 1), (-1, 1), -1, 4, 5, -BIG, BIG, (BIG, 1), (1, 0), (BIG, BIG), (BIG, 2 * BIG),
-    (-BIG, BIG + 1), [[[[[[1]]]]]], ((((((1,),),),),),), (((((1, 2), 1), 1), 1), 1), ["cut", None, (1, [2, (True,)])],
-)
-
-
-def stands(way):
-    """All that is told of a way."""
-    try:
-        shares = [str(share) for share in way.shares()]
-    except NotEnded as refusal:
-        shares = ("not ended", refusal.many)
-    return (way.due(), way.ended(), way.hands(), way.log(), way.asked(), len(way), str(way), shares)
 
 
 def sample(replies):
     """A Sample with some replies."""
-    way = Sample()
-    for reply in replies:
-        way.answer(reply)
-    return way
+    return answered(Sample(), replies)
 
 
 class Told(unittest.TestCase):
