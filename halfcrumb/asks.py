@@ -3,6 +3,9 @@
 from halfcrumb.figures import is_whole
 from halfcrumb.fractions import fraction_text, is_fraction, is_less
 
+# The reply to "trim" that is none of the three pieces.
+NO_PIECE = 3
+
 
 def is_legal(ask, reply):
     """Tell whether a reply, a thing of any kind, is legal to an ask."""

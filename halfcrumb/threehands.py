@@ -1,9 +1,8 @@
 """Three hands, of which none envies another one."""
 
+from halfcrumb.asks import NO_PIECE
 from halfcrumb.spans import BEGIN, END
 from halfcrumb.ways import Way, check_number
-
-NONE_OF_THREE = 3
 
 
 def without(pieces, number):
@@ -24,7 +23,7 @@ def trim_one(replay, hand, pieces):
     Where nothing is trimmed, the number and the rest are None.
     """
     number = replay.reply_to(("trim", hand, pieces))
-    if number == NONE_OF_THREE:
+    if number == NO_PIECE:
         return (None, pieces, None)
     here, there = pieces[number]
     place = replay.reply_to(("even", hand, here, there, without(pieces, number)))

@@ -7,6 +7,7 @@ from halfcrumb.errors import NotEnded
 from halfcrumb.halving import Halving
 from halfcrumb.onecuts import OneCuts
 from halfcrumb.shares import Share
+from halfcrumb.tables import Table
 from halfcrumb.threehands import ThreeHands
 from halfcrumb.trimming import Trimming
 
@@ -55,6 +56,16 @@ def place_of(number):
     return (number.numerator, number.denominator)
 
 
+def some_table(source, most=8):
+    """Some table of at most so many stretches, often with worths 0 and with alike ones."""
+    worths = [0]
+    while not any(worths):
+        worths = [
+            source.choice((0, 0, 1, 2, 6, source.randrange(10 ** 9))) for stretch in range(source.randint(1, most))
+        ]
+    return Table([(source.choice((1, 1, 2, 3, source.randint(1, 999))), worth) for worth in worths])
+
+
 def legal_reply(source, ask):
     """Some legal reply to an ask: often an end, or one of a few places, so that alike ones come."""
     if ask[0] == "trim":
@@ -68,11 +79,10 @@ def legal_reply(source, ask):
     return place_of(here + (there - here) * Fraction(source.randrange(bottom + 1), bottom))
 
 
-def run_at_random(source, way, tables=()):
-    """Answer a way to its end, by any legal replies, but the hands of a dict of tables by these."""
+def run_at_random(source, way):
+    """Answer a way to its end by any legal replies."""
     while way.due() is not None:
-        ask = way.due()
-        way.answer(tables[ask[1]](ask) if ask[1] in tables else legal_reply(source, ask))
+        way.answer(legal_reply(source, way.due()))
     return way
 
 

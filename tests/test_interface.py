@@ -11,6 +11,13 @@ FUNCTIONS = {
     ),
     "tabletext": ("read_table(text)",),
     "sharetext": ("read_share(text)",),
+    "honest": (
+        "reply_by(table, ask)", "run_by(way, tables)", "first_false(way, hand, table)", "honest(way, hand, table)",
+        "sorry_table(way, hand, tables)", "envied(way, hand, table)",
+    ),
+    "halves": ("half_span(one, other)",),
+    "cells": ("all_ends(tables)",),
+    "whole": ("whole_pieces(tables)",),
 }
 CLASSES = {
     "tables": ("Table", "(stretches)", (

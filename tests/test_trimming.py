@@ -34,7 +34,9 @@ def told_course(many):
 
 class Making(unittest.TestCase):
     def test_how_many_hands(self):
-        for way, many in ((Trimming(), 2), (Trimming(2), 2), (Trimming(3), 3), (Trimming(4), 4), (Trimming(hands=3), 3)):
+        for way, many in (
+            (Trimming(), 2), (Trimming(2), 2), (Trimming(3), 3), (Trimming(4), 4), (Trimming(hands=3), 3),
+        ):
             self.assertEqual(way.hands(), many)
             self.assertEqual(way.asked(), [0] * many)
             self.assertEqual(way.due(), cut(0, NOUGHT, ONE, (1, many)))
