@@ -20,6 +20,15 @@ def is_legal(ask, reply):
     return is_whole(reply) and 0 <= reply < many
 
 
+def is_same(thing, ask):
+    """Tell whether a thing, of any kind, is just this ask, or this part of one; a truth in it is no number."""
+    if isinstance(ask, tuple):
+        if not isinstance(thing, tuple) or len(thing) != len(ask):
+            return False
+        return all([is_same(one, other) for one, other in zip(thing, ask)])
+    return not isinstance(thing, bool) and thing == ask
+
+
 def reply_text(reply):
     """Write a reply, a place or a number."""
     return fraction_text(reply) if isinstance(reply, tuple) else str(reply)

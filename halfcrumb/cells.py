@@ -17,3 +17,9 @@ def all_ends(tables):
         for end in table.ends():
             places = with_place(places, end)
     return places
+
+
+def all_cells(tables):
+    """Tell the spans between neighbouring ends of some tables."""
+    ends = all_ends(tables)
+    return list(zip(ends, ends[1:]))

@@ -9,6 +9,11 @@ def is_whole(thing):
     return isinstance(thing, int) and not isinstance(thing, bool)
 
 
+def are_whole(things):
+    """Tell whether all things of a list are whole numbers."""
+    return all([is_whole(thing) for thing in things])
+
+
 def is_number(text):
     """Tell whether the text is one to forty figures without a needless nought ahead."""
     if not 1 <= len(text) <= MOST_FIGURES:

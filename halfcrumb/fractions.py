@@ -65,6 +65,11 @@ def is_fraction(thing):
     return bottom >= 1 and greatest_divisor(abs(top), bottom) == 1
 
 
+def are_fractions(things):
+    """Tell whether all things of a list are fractions."""
+    return all([is_fraction(thing) for thing in things])
+
+
 def fraction_text(fraction):
     """Write a fraction."""
     top, bottom = fraction

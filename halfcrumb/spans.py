@@ -10,9 +10,14 @@ BEGIN = (0, 1)
 END = (1, 1)
 
 
+def is_span(here, there):
+    """Tell whether a span lies on the loaf from the left to the right."""
+    return not is_less(here, BEGIN) and not is_less(END, there) and not is_less(there, here)
+
+
 def check_span(here, there):
     """Refuse a span that does not lie on the loaf from the left to the right."""
-    if is_less(here, BEGIN) or is_less(END, there) or is_less(there, here):
+    if not is_span(here, there):
         raise NoSpan("a span goes from 0 or more to 1 or less, and not backwards")
 
 

@@ -18,6 +18,12 @@ FUNCTIONS = {
     "halves": ("half_span(one, other)",),
     "cells": ("all_ends(tables)",),
     "whole": ("whole_pieces(tables)",),
+    "beads": ("fewest_cuts(beads)",),
+    "evenness": ("most_even(tables)",),
+    "lookers": (
+        "is_shared(shares)", "is_half(one, other, here, there)", "is_whole(tables, cuts, order)",
+        "is_even(beads, cuts)", "is_most(tables, part, shares, weights)", "is_log(way, log)",
+    ),
 }
 CLASSES = {
     "tables": ("Table", "(stretches)", (
@@ -38,6 +44,10 @@ CLASSES = {
     "halving": ("Halving", "(hands=2)", ()),
     "trimming": ("Trimming", "(hands=2)", ()),
     "threehands": ("ThreeHands", "(cutter=0)", ()),
+    "thread": ("Thread", "(beads)", (
+        "cut(at)", "mend(at=None)", "flip()", "undo()", "again()", "settle()", "cuts()", "pieces()", "begins()",
+        "counts(hand)", "even()", "twin()", "__len__()", "__eq__(other)", "__str__()",
+    )),
 }
 
 
