@@ -48,6 +48,13 @@ CLASSES = {
         "cut(at)", "mend(at=None)", "flip()", "undo()", "again()", "settle()", "cuts()", "pieces()", "begins()",
         "counts(hand)", "even()", "twin()", "__len__()", "__eq__(other)", "__str__()",
     )),
+    "room": ("Room", "()", (
+        "seat(name, text)", "retell(name, text)", "leave(name)", "rename(name, new)", "begin(run, word, names)",
+        "answer(run, reply)", "twin(run, new)", "drop(run)", "undo()", "redo()", "honest(run)", "back(run)",
+        "again(run)", "finish(run)", "names()", "runs()", "hands(run)", "table(name)", "way(run)", "due(run)",
+        "share(run, name)", "faith(run)", "asked(name)", "double()", "__len__()", "__eq__(other)",
+    )),
+    "desk": ("Desk", "()", ("told(line)", "room()")),
 }
 
 

@@ -266,7 +266,8 @@ class IsMost(unittest.TestCase):
     def test_right(self):
         self.assertIs(self.told(), True)
         self.assertIs(is_most(self.tables, self.part, self.shares, self.weights), True)
-        self.assertIs(is_most([EVEN] * 4, (1, 4), read_shares("0-1/4", "1/4-1/2", "1/2-3/4", "3/4-1"), [(1, 4)] * 4), True)
+        quarters = read_shares("0-1/4", "1/4-1/2", "1/2-3/4", "3/4-1")
+        self.assertIs(is_most([EVEN] * 4, (1, 4), quarters, [(1, 4)] * 4), True)
         tables = [read_table("1:1 1:0"), EVEN]
         self.assertIs(is_most(tables, (2, 3), read_shares("0-1/3", "1/3-1"), [(1, 3), (2, 3)]), True)
 
