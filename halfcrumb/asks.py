@@ -1,6 +1,6 @@
 """Asks, tuples (word, hand, ..), and the replies to them."""
 
-from halfcrumb.figures import is_whole
+from halfcrumb.figures import is_whole_number
 from halfcrumb.fractions import fraction_text, is_fraction, is_less
 
 # The reply to "trim" that is none of the three pieces.
@@ -17,7 +17,7 @@ def is_legal(ask, reply):
     if ask[0] == "trim":
         # One number more, for none of the pieces.
         many += 1
-    return is_whole(reply) and 0 <= reply < many
+    return is_whole_number(reply) and 0 <= reply < many
 
 
 def is_same(thing, ask):

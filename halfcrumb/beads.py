@@ -1,7 +1,7 @@
 """Beads of up to three kinds, and the cuts that part them among two hands."""
 
 from halfcrumb.errors import NoBeads, Odd
-from halfcrumb.figures import is_whole
+from halfcrumb.figures import is_whole_number
 
 KINDS = "abc"
 MOST_BEADS = 24
@@ -24,7 +24,7 @@ def check_beads(text):
 
 def is_cut(at, many):
     """Tell whether a cut of so many beads can lie behind that many of them."""
-    return is_whole(at) and 1 <= at < many
+    return is_whole_number(at) and 1 <= at < many
 
 
 def are_cuts(cuts, many):

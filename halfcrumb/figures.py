@@ -4,14 +4,14 @@ FIGURES = "0123456789"
 MOST_FIGURES = 40
 
 
-def is_whole(thing):
+def is_whole_number(thing):
     """Tell whether a thing, of any kind, is a whole number; a truth is none."""
     return isinstance(thing, int) and not isinstance(thing, bool)
 
 
-def are_whole(things):
+def are_whole_numbers(things):
     """Tell whether all things of a list are whole numbers."""
-    return all([is_whole(thing) for thing in things])
+    return all([is_whole_number(thing) for thing in things])
 
 
 def is_number(text):

@@ -1,7 +1,7 @@
 """Fractions: tuples (top, bottom) of whole numbers in lowest terms, the bottom from 1 on."""
 
 from halfcrumb.errors import NoFraction, NoText
-from halfcrumb.figures import is_number, is_whole
+from halfcrumb.figures import is_number, is_whole_number
 
 
 def greatest_divisor(one, other):
@@ -60,7 +60,7 @@ def is_fraction(thing):
     if not isinstance(thing, tuple) or len(thing) != 2:
         return False
     top, bottom = thing
-    if not is_whole(top) or not is_whole(bottom):
+    if not is_whole_number(top) or not is_whole_number(bottom):
         return False
     return bottom >= 1 and greatest_divisor(abs(top), bottom) == 1
 

@@ -2,7 +2,7 @@
 
 from halfcrumb.asks import NO_PIECE
 from halfcrumb.errors import NoHands
-from halfcrumb.figures import is_whole
+from halfcrumb.figures import is_whole_number
 from halfcrumb.fractions import fraction_of, is_less, times
 from halfcrumb.spans import greater
 
@@ -54,7 +54,7 @@ def run_by(way, tables):
 
 def check_hand(way, hand):
     """Refuse a hand that the way hasn't."""
-    if not is_whole(hand) or not 0 <= hand < way.hands():
+    if not is_whole_number(hand) or not 0 <= hand < way.hands():
         raise NoHands("the way has no such hand")
 
 

@@ -3,7 +3,7 @@
 from halfcrumb.asks import is_legal, is_same
 from halfcrumb.beads import are_cuts, parts_evenly, wrong_at
 from halfcrumb.evenness import may_share, part_at_most
-from halfcrumb.figures import are_whole
+from halfcrumb.figures import are_whole_numbers
 from halfcrumb.fractions import are_fractions, is_fraction, is_less, sum_of, times
 from halfcrumb.honest import greatest_of, worths_of
 from halfcrumb.spans import BEGIN, END, is_span
@@ -47,7 +47,7 @@ def is_whole(tables, cuts, order):
     many = len(tables)
     if many not in (2, 3) or len(cuts) != many - 1:
         return False
-    if not are_fractions(cuts) or not are_whole(order) or sorted(order) != list(range(many)):
+    if not are_fractions(cuts) or not are_whole_numbers(order) or sorted(order) != list(range(many)):
         return False
     places = [BEGIN, *cuts, END]
     pieces = list(zip(places, places[1:]))

@@ -21,7 +21,7 @@ def check_new(name, kept):
         raise Taken(name)
 
 
-def without(kept, name):
+def all_but(kept, name):
     """Tell what is kept but for what that name stands for."""
     return {other: kept[other] for other in kept if other != name}
 
@@ -67,17 +67,18 @@ class Room:
         for run in sorted(runs):
             if name in self.hands(run):
                 raise Seated(run)
-        self.history.go_on((without(tables, name), runs))
+        self.history.go_on((all_but(tables, name), runs))
 
     def rename(self, name, new):
         """Give a hand a new name, also in each run that has it."""
         table = self.table(name)
         tables, runs = self.history.now
         check_new(new, tables)
+        others = all_but(tables, name)
         renamed = {}
         for run, (way, names) in runs.items():
             renamed[run] = (way, tuple([new if other == name else other for other in names]))
-        self.history.go_on(({**without(tables, name), new: table}, renamed))
+        self.history.go_on(({**others, new: table}, renamed))
 
     def begin(self, run, word, names):
         """Begin a new run of a way, by its word, among the hands of these names."""
@@ -142,7 +143,7 @@ class Room:
         """Let a run go."""
         self.run_of(run)
         tables, runs = self.history.now
-        self.history.go_on((tables, without(runs, run)))
+        self.history.go_on((tables, all_but(runs, run)))
 
     def undo(self):
         """Let all stand as ahead of the last deed that is not undone yet."""

@@ -2,7 +2,7 @@
 
 from halfcrumb.beads import check_beads, fewest_cuts, is_cut, kinds_of, parts_evenly, pieces_of
 from halfcrumb.errors import NoCut, NoHand
-from halfcrumb.figures import is_whole
+from halfcrumb.figures import is_whole_number
 from halfcrumb.history import History
 
 
@@ -25,7 +25,7 @@ class Thread:
         """Take the cut behind so many beads away, or the greatest cut."""
         cuts, first = self.history.now
         mended = max(cuts, default=None) if at is None else at
-        if not is_whole(mended) or mended not in cuts:
+        if not is_whole_number(mended) or mended not in cuts:
             raise NoCut(at)
         self.history.go_on((tuple([other for other in cuts if other != mended]), first))
 
@@ -64,7 +64,7 @@ class Thread:
 
     def counts(self, hand):
         """Tell how many a, b, c a hand gets."""
-        if not is_whole(hand) or hand not in (0, 1):
+        if not is_whole_number(hand) or hand not in (0, 1):
             raise NoHand(hand)
         return kinds_of(self.pieces(), 0 if hand == self.begins() else 1)
 

@@ -2,14 +2,14 @@
 
 from halfcrumb.asks import is_legal, reply_text
 from halfcrumb.errors import Ended, NoHands, NoReply, NotEnded, NothingSaid
-from halfcrumb.figures import is_whole
+from halfcrumb.figures import is_whole_number
 from halfcrumb.replay import Replay, Unanswered
 from halfcrumb.shares import Share
 
 
 def check_number(number, least, most):
     """Refuse a number of which a way cannot be made."""
-    if not is_whole(number) or not least <= number <= most:
+    if not is_whole_number(number) or not least <= number <= most:
         raise NoHands(f"the number is one from {least} to {most}")
 
 

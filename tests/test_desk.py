@@ -273,7 +273,8 @@ class NoSuchLine(DeskCase):
             " hands", "hands ", "hands  ", "  hands", "seat  fay 1:1", "seat fay  1:1", "seat fay 1:1 ",
             "seat fay 1:1  1:1", " seat fay 1:1", "table  ann", "table ann ", "answer r  1/2", "answer r ",
             "answer  1/2", "leave ", "copy ", "use ", "same ", "undo ", " undo", "begin u  ann ben",
-            "begin u halving ann  ben", "begin u halving ann ben ", "share s ", "rename  ann", "rename ann ", "copy  x", "twin r ",
+            "begin u halving ann  ben", "begin u halving ann ben ", "share s ", "rename  ann", "rename ann ",
+            "copy  x", "twin r ",
         ):
             self.check(line)
 
